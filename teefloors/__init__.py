@@ -1,0 +1,1 @@
+"""Floors laid with pieces like a T, by rises and rounds."""

@@ -1,0 +1,104 @@
+"""What holds for every function: point [2]."""
+
+import copy
+import inspect
+import unittest
+
+from teefloors import floors, signs
+from tests.helpers import caught, listed, told_error
+from tests.test_interface import FUNCTIONS
+
+TIE = ((0, 0), (1, 0))
+
+# For each function calls that return, and calls that raise with a value in the error.
+CALLS = {
+    signs: {
+        "words": [("a b # c\n-1",)], "text_of": [([("a", 0), ("b", 2)],), ([],)], "number_of": [("12",), ("x",)],
+        "word_of": [(-3,)],
+    },
+    floors: {
+        "is_floor": [((1, 2),), (7,)], "is_cell": [((1, 2), (0, 0)), ((1, 2), None)],
+        "is_block": [((1, 2), (0, 0))], "is_face": [((1, 2), ("dot", 0, 0))], "is_tie": [((2, 2), TIE)],
+        "sizes": [((2, 3),)], "block_of": [((2, 3), (5, 6)), ((2, 3), (50, 6))],
+        "cells_of_block": [((2, 3), (3, 2)), ((2, 3), (30, 2))], "dot_of": [((2, 3), (3, 2)), ((2, 3), (30, 2))],
+        "outer_of": [((2, 3), (2, 1)), ((2, 3), (30, 2))], "faces": [((2, 3),)], "ties": [((2, 3),)],
+        "blocks_at": [((2, 3), ("inner", 0, 1)), ((2, 3), ("rim",)), ((2, 3), ("inner", 1, 1))],
+        "touching": [((2, 3), ("dot", 0, 1)), ((2, 3), ("inner", 1, 1))],
+        "ends": [((2, 3), TIE), ((1, 3), TIE)], "sides": [((2, 3), TIE), ((1, 3), TIE)],
+        "site": [((2, 3), TIE), ((1, 3), TIE)],
+    },
+}
+
+
+def all_calls():
+    """Each function with its arguments, name by name."""
+    for module, calls in CALLS.items():
+        for name, told in calls.items():
+            function = getattr(module, name)
+            names = list(inspect.signature(function).parameters)
+            for args in told:
+                yield function, dict(zip(names, args))
+
+
+def result(function, named):
+    """What a call returns or raises, as a text that tells tuples and lists apart."""
+    error = caught(function, **named)
+    return told_error(error) if error is not None else repr(function(**named))
+
+
+class EveryFunction(unittest.TestCase):
+    def test_each_is_called_here(self):
+        self.assertEqual({module: set(told) for module, told in CALLS.items()},
+                         {module: set(told) for module, told in FUNCTIONS.items()})
+
+    def test_by_position_and_by_name(self):
+        for function, named in all_calls():
+            with self.subTest(function=function.__name__, **named):
+                told = result(function, named)
+                turned = dict(reversed(list(named.items())))
+                self.assertEqual(result(function, turned), told)
+                error = caught(function, *named.values())
+                again = told_error(error) if error is not None else repr(function(*named.values()))
+                self.assertEqual(again, told)
+
+    def test_lists_for_tuples(self):
+        for function, named in all_calls():
+            with self.subTest(function=function.__name__, **named):
+                given = {name: value if name == "thing" else listed(value) for name, value in named.items()}
+                held = copy.deepcopy(given)
+                self.assertEqual(result(function, given), result(function, named))
+                self.assertEqual(given, held)
+
+    def test_lists_are_mixed_with_tuples(self):
+        for function, named in all_calls():
+            for name, value in named.items():
+                if name != "thing" and isinstance(value, (list, tuple)):
+                    mixed = [list(item) if isinstance(item, tuple) else item for item in value]
+                    for given in (list(value), tuple(value), tuple(mixed)):
+                        with self.subTest(function=function.__name__, **named):
+                            self.assertEqual(result(function, {**named, name: given}), result(function, named))
+
+    def test_a_thing_is_no_list(self):
+        for function, named in all_calls():
+            if "thing" in named and isinstance(named["thing"], tuple):
+                self.assertIs(function(**{**named, "thing": listed(named["thing"])}), False)
+
+    def test_returned_lists_are_new(self):
+        for function, named in all_calls():
+            if caught(function, **named) is None:
+                told = function(**named)
+                held = copy.deepcopy(told)
+                if isinstance(told, list):
+                    told.append(None)
+                    self.assertIsNot(function(**named), told)
+                self.assertEqual(function(**named), held)
+
+    def test_what_is_returned_has_no_lists_within(self):
+        for function, named in all_calls():
+            if caught(function, **named) is None:
+                told = function(**named)
+                self.assertNotIn("[", repr(tuple(told) if isinstance(told, list) else told))
+
+
+if __name__ == "__main__":
+    unittest.main()
