@@ -4,10 +4,12 @@ import copy
 import inspect
 import unittest
 
-from teefloors import floors, signs
+from teefloors import floors, layings, mirrored, pieces, signs, ties
 from tests.helpers import caught, listed, told_error
 from tests.test_interface import FUNCTIONS
 
+ONE = ((0, 1, 0), (1, 3, 3), (2, 0, 1), (3, 2, 2))
+TWO = ((0, 2, 0), (1, 0, 1), (2, 3, 3), (3, 1, 2))
 TIE = ((0, 0), (1, 0))
 
 # For each function calls that return, and calls that raise with a value in the error.
@@ -26,6 +28,32 @@ CALLS = {
         "touching": [((2, 3), ("dot", 0, 1)), ((2, 3), ("inner", 1, 1))],
         "ends": [((2, 3), TIE), ((1, 3), TIE)], "sides": [((2, 3), TIE), ((1, 3), TIE)],
         "site": [((2, 3), TIE), ((1, 3), TIE)],
+    },
+    pieces: {
+        "is_piece": [((0, 0, 1),)], "cells_of": [((0, 0, 1),)], "on_floor": [((1, 1), (1, 1, 1))],
+        "four_of": [((2, 1), (1, 1)), ((2, 1), (4, 0))], "can_lie": [((2, 1), (3, 2, 1)), ((2, 1), (0, 0, 0))],
+        "own_block": [((2, 1), (3, 2, 1)), ((2, 1), (0, 0, 0))], "left_out": [((2, 1), (3, 2, 1))],
+        "goes_to": [((2, 1), (3, 2, 1))], "sign_of": [((2, 1), (3, 2, 1))], "tie_told": [((2, 1), (3, 2, 1))],
+        "piece_to": [((2, 1), (1, 1), (2, 1)), ((2, 1), (1, 1), (4, 1)), ((2, 1), (1, 1), (3, 1))],
+    },
+    layings: {
+        "is_laying": [((1, 1), ONE), ((1, 1), ONE[:3])], "first_gap": [((1, 1), ONE[1:]), ((1, 1), ())],
+        "first_overlap": [((1, 1), ONE + TWO), ((1, 1), ONE)],
+        "piece_at": [((1, 1), ONE, (3, 3)), ((1, 1), ONE, (4, 3))],
+        "piece_of_block": [((1, 1), ONE, (1, 1)), ((1, 1), ONE, (2, 1))], "some_laying": [((2, 3),)],
+        "all_layings": [((1, 2),), ((3, 3),)], "plain_layings": [(8, 4), (6, 6)],
+    },
+    mirrored: {
+        "floor_moved": [((1, 2), 3)], "way_moved": [(1, 5)], "cell_moved": [((1, 2), (1, 0), 3), ((1, 2), (8, 0), 3)],
+        "block_moved": [((1, 2), (1, 0), 3), ((1, 2), (8, 0), 3)], "pieces_moved": [((1, 1), ONE, 6), ((1, 1), (), 0)],
+        "move_back": [(3,)], "moves_put": [(3, 6)], "moves_between": [((1, 1), ONE, TWO)],
+        "are_alike": [((1, 1), ONE, TWO)], "least_seen": [((1, 1), TWO)], "unlike_layings": [((1, 2),), ((3, 3),)],
+    },
+    ties: {
+        "is_lot": [((2, 1), (TIE,)), ((2, 1), [TIE])], "lots": [((2, 2),), ((4, 4),)], "lot_of": [((1, 1), ONE)],
+        "other_lot": [((2, 2), (TIE,))], "put_together": [((2, 2), (TIE,), ())], "parts": [((2, 2), (TIE,))],
+        "part_of": [((2, 2), (TIE,), (0, 0)), ((2, 2), (TIE,), (4, 0))], "lands": [((2, 2), (TIE,))],
+        "joined_blocks": [((2, 2), (TIE,), (1, 0)), ((2, 2), (TIE,), (4, 0))],
     },
 }
 

@@ -3,7 +3,7 @@
 import inspect
 import unittest
 
-from teefloors import errors, floors, signs
+from teefloors import errors, floors, layings, mirrored, pieces, signs, ties
 
 # Each function of the interface that has landed, with the names of its arguments in order.
 FUNCTIONS = {
@@ -14,6 +14,27 @@ FUNCTIONS = {
         "dot_of": "floor block", "outer_of": "floor block", "faces": "floor", "ties": "floor",
         "blocks_at": "floor face", "touching": "floor face", "ends": "floor tie", "sides": "floor tie",
         "site": "floor tie",
+    },
+    pieces: {
+        "is_piece": "thing", "cells_of": "piece", "on_floor": "floor piece", "four_of": "floor block",
+        "can_lie": "floor piece", "own_block": "floor piece", "left_out": "floor piece", "goes_to": "floor piece",
+        "sign_of": "floor piece", "tie_told": "floor piece", "piece_to": "floor block other",
+    },
+    layings: {
+        "is_laying": "floor thing", "first_gap": "floor pieces", "first_overlap": "floor pieces",
+        "piece_at": "floor laying cell", "piece_of_block": "floor laying block", "some_laying": "floor",
+        "all_layings": "floor", "plain_layings": "many high",
+    },
+    mirrored: {
+        "floor_moved": "floor number", "way_moved": "way number", "cell_moved": "floor cell number",
+        "block_moved": "floor block number", "pieces_moved": "floor pieces number", "move_back": "number",
+        "moves_put": "one second", "moves_between": "floor laying other", "are_alike": "floor laying other",
+        "least_seen": "floor laying", "unlike_layings": "floor",
+    },
+    ties: {
+        "is_lot": "floor thing", "lots": "floor", "lot_of": "floor laying", "other_lot": "floor lot",
+        "put_together": "floor lot other", "parts": "floor lot", "part_of": "floor lot block", "lands": "floor lot",
+        "joined_blocks": "floor lot block",
     },
 }
 
