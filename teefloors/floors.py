@@ -237,14 +237,18 @@ def blocks_at(floor, face):
     return tuple(touching_blocks(floor, read_face(floor, face)))
 
 
-def touching(floor, face):
-    """The set of the other FACES that the BLOCKS touch that touch this one."""
-    floor = read_floor(floor)
-    face = read_face(floor, face)
+def touching_faces(floor, face):
+    """The set of the other FACES that the BLOCKS touch that touch this FACE of floor."""
     blocks = touching_blocks(floor, face)
     if face[0] == "dot":
         return tuple(sorted({outer_face(floor, block) for block in blocks}))
-    return tuple(sorted({("dot", block[0] // 2, block[1] // 2) for block in blocks}))
+    return tuple(sorted({("dot", *dot_pair(block)) for block in blocks}))
+
+
+def touching(floor, face):
+    """The set of the other FACES that the BLOCKS touch that touch this one."""
+    floor = read_floor(floor)
+    return touching_faces(floor, read_face(floor, face))
 
 
 def ends(floor, tie):

@@ -34,6 +34,19 @@ def is_laying(floor, thing):
     return covers(read_floor(floor), thing)
 
 
+def blocks_laid(laying):
+    """A dict from each BLOCK of a FLOOR to its PIECE in this LAYING of it."""
+    return {block_in(piece): piece for piece in laying}
+
+
+def every_choice(fixed, choices):
+    """The list, ascending, of the LAYINGS with the fixed PIECES and, of each pair of lists of them, either one."""
+    found = [fixed]
+    for one, other in choices:
+        found = [[*pieces, *more] for pieces in found for more in (one, other)]
+    return sorted([tuple(sorted(pieces)) for pieces in found])
+
+
 def times_covered(floor, pieces):
     """A dict from each CELL of floor, ascending, to how many of pieces have it."""
     times = {cell: 0 for cell in all_cells(floor)}
@@ -73,7 +86,7 @@ def piece_of_block(floor, laying, block):
     laying = read_laying(floor, laying)
     block = read_pair(block)
     need_block(floor, block)
-    return [piece for piece in laying if block_in(piece) == block][0]
+    return blocks_laid(laying)[block]
 
 
 def some_laying(floor):

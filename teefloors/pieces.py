@@ -90,6 +90,21 @@ def lies_on(floor, piece):
     return other is not None and has_block(floor, block_in(piece)) and has_block(floor, other)
 
 
+def turned_over(laid, four):
+    """The PIECES that come if, at a place where these four BLOCKS meet, each goes the other way.
+
+    laid leads from each BLOCK to its PIECE. What comes is a dict of those BLOCKS whose PIECES go
+    to another one of the four: from there each leads to the PIECE that goes to the third one beside it.
+    """
+    anew = {}
+    for block in four:
+        goal = gone_to(laid[block])
+        if goal in four:
+            ways = pieces_of(block)
+            anew[block] = [ways[other] for other in four if other in ways and other != goal][0]
+    return anew
+
+
 def read_lying(floor, value):
     """The PIECE that was handed in; Unfit(), or CanNot() if it can't lie on floor."""
     held = read_piece(value)

@@ -4,7 +4,7 @@ from teefloors.errors import TooMany, Unfit
 from teefloors.floors import all_dots, all_inners, away, dot_pair, has_tie, looks_like_tie, need_block
 from teefloors.floors import RIM, read_floor, side_faces, tie_over, ties
 from teefloors.layings import read_laying
-from teefloors.pieces import told_of_tie
+from teefloors.pieces import block_in, gone_to
 from teefloors.values import is_ascending, read_pair, tupled
 
 MOST_TIES = 12
@@ -43,11 +43,16 @@ def lots(floor):
     return sorted(found)
 
 
+def lot_laid(laying):
+    """The LOT of this LAYING: the TIES over which its PIECES go."""
+    gone_over = [tie_over(block_in(piece), gone_to(piece)) for piece in laying]
+    return tuple(sorted({tie for tie in gone_over if tie[0] != tie[1]}))
+
+
 def lot_of(floor, laying):
     """The LOT of laying: the TIES that its PIECES tell as tied."""
     floor = read_floor(floor)
-    told = [told_of_tie(floor, piece) for piece in read_laying(floor, laying)]
-    return tuple(sorted({one[0] for one in told if one is not None and one[1] == "tied"}))
+    return lot_laid(read_laying(floor, laying))
 
 
 def other_lot(floor, lot):
@@ -65,15 +70,21 @@ def put_together(floor, lot, other):
     return tuple(sorted(set(lot) ^ set(other)))
 
 
+def join_names(named, one, other):
+    """Give one name to all that bear that of one or of other; whether these were two names."""
+    kept, given_up = named[one], named[other]
+    for member in list(named):
+        if named[member] == given_up:
+            named[member] = kept
+    return kept != given_up
+
+
 def hanging_together(members, links):
     """The tuple, ascending, of the sets of those members, handed in ascending, that hang together by links."""
+    # All that hang together bear one name, so no way has to be gone again.
     named = {member: member for member in members}
     for one, other in links:
-        # All that hang together bear one name, so no way has to be gone again.
-        kept, given_up = named[one], named[other]
-        for member in members:
-            if named[member] == given_up:
-                named[member] = kept
+        join_names(named, one, other)
     rows = {}
     for member in members:
         rows.setdefault(named[member], []).append(member)
@@ -100,12 +111,27 @@ def part_of(floor, lot, block):
     return [part for part in parts_of_lot(floor, lot) if dot_pair(block) in part][0]
 
 
+def lands_of_lot(floor, lot):
+    """The tuple, ascending, of the lands of this LOT of floor."""
+    crossed = [side_faces(floor, tie) for tie in ties(floor) if tie not in lot]
+    return hanging_together([*all_inners(floor), RIM], crossed)
+
+
 def lands(floor, lot):
     """The tuple, ascending, of the lands of lot: sets of INNER FACES and the RIM."""
     floor = read_floor(floor)
-    lot = read_lot(floor, lot)
-    crossed = [side_faces(floor, tie) for tie in ties(floor) if tie not in lot]
-    return hanging_together([*all_inners(floor), RIM], crossed)
+    return lands_of_lot(floor, read_lot(floor, lot))
+
+
+def joined_by(lot, block):
+    """The two BLOCKS with which this LOT, or a dict from its TIES, joins this one, east or west of it first."""
+    i, j = block
+    east, north = away(i), away(j)
+    beside, above = (i + east, j), (i, j + north)
+    # Where the RIM is, no TIE is in lot: the BLOCKS of one DOT are joined, as at a cut one.
+    first = beside if tie_over(block, beside) in lot else (i, j - north)
+    second = above if tie_over(block, above) in lot else (i - east, j)
+    return (first, second)
 
 
 def joined_blocks(floor, lot, block):
@@ -114,10 +140,4 @@ def joined_blocks(floor, lot, block):
     lot = read_lot(floor, lot)
     block = read_pair(block)
     need_block(floor, block)
-    i, j = block
-    east, north = away(i), away(j)
-    beside, above = (i + east, j), (i, j + north)
-    # Where the RIM is, no TIE is in lot: the BLOCKS of one DOT are joined, as at a cut one.
-    first = beside if tie_over(block, beside) in lot else (i, j - north)
-    second = above if tie_over(block, above) in lot else (i - east, j)
-    return (first, second)
+    return joined_by(lot, block)

@@ -4,13 +4,15 @@ import copy
 import inspect
 import unittest
 
-from teefloors import floors, layings, mirrored, pieces, signs, ties
+from teefloors import floors, goings, lattice, layings, mirrored, pieces, rises, rounds, signs, ties
 from tests.helpers import caught, listed, told_error
 from tests.test_interface import FUNCTIONS
 
 ONE = ((0, 1, 0), (1, 3, 3), (2, 0, 1), (3, 2, 2))
 TWO = ((0, 2, 0), (1, 0, 1), (2, 3, 3), (3, 1, 2))
 TIE = ((0, 0), (1, 0))
+RISE = (((1, 1), (1, 1)), ((0,),))
+HILL = (((1, 1), (1, 1)), ((2,),))
 
 # For each function calls that return, and calls that raise with a value in the error.
 CALLS = {
@@ -54,6 +56,40 @@ CALLS = {
         "other_lot": [((2, 2), (TIE,))], "put_together": [((2, 2), (TIE,), ())], "parts": [((2, 2), (TIE,))],
         "part_of": [((2, 2), (TIE,), (0, 0)), ((2, 2), (TIE,), (4, 0))], "lands": [((2, 2), (TIE,))],
         "joined_blocks": [((2, 2), (TIE,), (1, 0)), ((2, 2), (TIE,), (4, 0))],
+    },
+    rounds: {
+        "rounds": [((2, 2), (TIE,))], "round_at": [((2, 2), (TIE,), (3, 3)), ((2, 2), (TIE,), (4, 0))],
+        "how_many_rounds": [((2, 2), (TIE,))], "next_left": [((2, 2), (TIE,), (1, 0)), ((2, 2), (TIE,), (4, 0))],
+        "next_right": [((2, 2), (TIE,), (1, 0)), ((2, 2), (TIE,), (4, 0))],
+        "round_walk": [((2, 2), (TIE,), (1, 0)), ((2, 2), (TIE,), (4, 0))], "rings_in": [((2, 2), (TIE,))],
+        "rounds_by_lands": [((2, 2), (TIE,))], "rounds_tie_by_tie": [((2, 2), (TIE,))],
+        "tie_turned": [((2, 2), (TIE,), TIE), ((2, 1), (TIE,), ((1, 0), (1, 1)))],
+        "round_area": [((2, 2), (TIE,), 2), ((2, 2), (TIE,), 3)], "dots_within": [((2, 2), (TIE,), 0)],
+    },
+    rises: {
+        "is_rise": [((2, 2), RISE), ((2, 1), RISE)], "is_book": [((2, 2), RISE, (TIE,)), ((2, 2), HILL, (TIE,))],
+        "rise_of": [((1, 1), ONE)], "book_of": [((1, 1), TWO)],
+        "height": [((2, 2), HILL, ("inner", 0, 0)), ((2, 2), HILL, ("inner", 0, 1))], "signs_of": [((2, 2), HILL)],
+        "flat_ties": [((2, 2), RISE)], "tied_ties": [((2, 2), HILL)],
+        "laying_of_rise": [((2, 2), RISE, (TIE,)), ((2, 2), HILL, (TIE,))],
+        "layings_of": [((2, 2), RISE), ((1, 12), (((1,) * 12,), ()))], "many_of": [((2, 2), RISE)],
+    },
+    lattice: {
+        "least_rise": [((3, 2),)], "greatest_rise": [((3, 2),)],
+        "steps_to": [((3, 2), ("dot", 1, 1)), ((3, 2), ("dot", 1, 2))], "lower": [((2, 2), RISE, HILL)],
+        "upper": [((2, 2), RISE, HILL)], "is_below": [((2, 2), RISE, HILL)], "can_rise": [((2, 2), RISE)],
+        "can_fall": [((2, 2), RISE)], "raised": [((2, 2), RISE, ("inner", 0, 0)), ((2, 2), HILL, ("inner", 0, 0))],
+        "lowered": [((2, 2), HILL, ("inner", 0, 0)), ((2, 2), HILL, ("inner", 0, 1))], "sum_of": [((2, 2), RISE)],
+        "all_rises": [((2, 2),), ((3, 4),)], "how_many_rises": [((2, 3),), ((5, 5),)],
+    },
+    goings: {
+        "are_goings": [((2, 1), (TIE,), (1,)), ((2, 1), (), (1,))], "goings_of": [((1, 1), ONE)],
+        "laying_of_goings": [((2, 1), (TIE,), (-1,)), ((2, 1), (TIE,), (-1, 1))],
+        "all_with_lot": [((2, 1), (TIE,)), ((4, 4), ())], "way_gone": [((1, 1), ONE, (0, 1)), ((1, 1), ONE, (0, 2))],
+        "round_turned": [((1, 1), ONE, (0, 1)), ((1, 1), ONE, (0, 2))], "all_turned": [((1, 1), ONE)],
+        "rounds_about": [((2, 1), (TIE,), ("dot", 0, 0)), ((2, 1), (TIE,), ("inner", 0, 0))],
+        "outer_rounds": [((2, 1), (TIE,))], "turns_of": [((2, 1), (), (1, -1)), ((2, 1), (), (1,))],
+        "height_by_rounds": [((1, 1), ONE, ("dot", 0, 0)), ((1, 1), ONE, ("dot", 1, 0))],
     },
 }
 

@@ -3,7 +3,7 @@
 import inspect
 import unittest
 
-from teefloors import errors, floors, layings, mirrored, pieces, signs, ties
+from teefloors import errors, floors, goings, lattice, layings, mirrored, pieces, rises, rounds, signs, ties
 
 # Each function of the interface that has landed, with the names of its arguments in order.
 FUNCTIONS = {
@@ -35,6 +35,29 @@ FUNCTIONS = {
         "is_lot": "floor thing", "lots": "floor", "lot_of": "floor laying", "other_lot": "floor lot",
         "put_together": "floor lot other", "parts": "floor lot", "part_of": "floor lot block", "lands": "floor lot",
         "joined_blocks": "floor lot block",
+    },
+    rounds: {
+        "rounds": "floor lot", "round_at": "floor lot block", "how_many_rounds": "floor lot",
+        "next_left": "floor lot block", "next_right": "floor lot block", "round_walk": "floor lot block",
+        "rings_in": "floor lot", "rounds_by_lands": "floor lot", "rounds_tie_by_tie": "floor lot",
+        "tie_turned": "floor lot tie", "round_area": "floor lot number", "dots_within": "floor lot number",
+    },
+    rises: {
+        "is_rise": "floor thing", "is_book": "floor rise thing", "rise_of": "floor laying", "book_of": "floor laying",
+        "height": "floor rise face", "signs_of": "floor rise", "flat_ties": "floor rise", "tied_ties": "floor rise",
+        "laying_of_rise": "floor rise book", "layings_of": "floor rise", "many_of": "floor rise",
+    },
+    lattice: {
+        "least_rise": "floor", "greatest_rise": "floor", "steps_to": "floor face", "lower": "floor rise other",
+        "upper": "floor rise other", "is_below": "floor rise other", "can_rise": "floor rise", "can_fall": "floor rise",
+        "raised": "floor rise face", "lowered": "floor rise face", "sum_of": "floor rise", "all_rises": "floor",
+        "how_many_rises": "floor",
+    },
+    goings: {
+        "are_goings": "floor lot thing", "goings_of": "floor laying", "laying_of_goings": "floor lot goings",
+        "all_with_lot": "floor lot", "way_gone": "floor laying block", "round_turned": "floor laying block",
+        "all_turned": "floor laying", "rounds_about": "floor lot face", "outer_rounds": "floor lot",
+        "turns_of": "floor lot goings", "height_by_rounds": "floor laying face",
     },
 }
 

@@ -1,16 +1,15 @@
 """Ties: point [9]."""
 
-import itertools
 import unittest
 
 from teefloors import errors, floors, ties
-from teefloors.floors import dot_of, site
 from teefloors.layings import all_layings, some_laying
 from teefloors.pieces import goes_to, own_block, tie_told
 from teefloors.ties import (
     is_lot, joined_blocks, lands, lot_of, lots, other_lot, part_of, parts, put_together,
 )
-from tests.helpers import FLOORS, ODD, cells, check_raises, check_transcript, check_unfit, listed
+from tests.helpers import FLOORS, ODD, check_raises, check_transcript, check_unfit, listed
+from tests.own import RIM, SMALL, own_blocks, own_joined, own_lands, own_lot, own_lots, own_parts, own_ties
 
 EXAMPLES = r"""
 >>> square = (2, 2)
@@ -35,75 +34,12 @@ raises Unfit()
 """
 
 ONE = ((0, 1, 0), (1, 3, 3), (2, 0, 1), (3, 2, 2))
-SMALL = [(1, 1), (1, 2), (2, 1), (1, 3), (3, 1), (2, 2), (2, 3), (3, 2)]
-RIM = ("rim",)
 SOUTH, NORTH, WEST, EAST = ((0, 0), (1, 0)), ((0, 1), (1, 1)), ((0, 0), (0, 1)), ((1, 0), (1, 1))
 UNFIT_LOTS = [
     *ODD, 0, SOUTH, (SOUTH, SOUTH), (SOUTH, WEST), (((0, 0), (1, 1)),), (((1, 0), (0, 0)),), (((0, 0), (0, 0)),),
     (((1, 0), (2, 0)),), (((0, 0),),), (((0, 0), (1, 0), (1, 1)),), ((SOUTH,),), (SOUTH, None), (SOUTH, ("dot", 0, 0)),
     (((0, 0), (True, 0)),), (((0, 0), (1, False)),),
 ]
-
-
-def own_ties(floor):
-    dots = [(i, j) for i in range(floor[0]) for j in range(floor[1])]
-    beside = [(one, two) for one in dots for two in dots if abs(one[0] - two[0]) + abs(one[1] - two[1]) == 1]
-    return sorted(pair for pair in beside if pair[0] < pair[1])
-
-
-def own_lots(floor):
-    told = own_ties(floor)
-    return sorted(tuple(lot) for many in range(len(told) + 1) for lot in itertools.combinations(told, many))
-
-
-def own_blocks(floor):
-    return [(i, j) for i in range(2 * floor[0]) for j in range(2 * floor[1])]
-
-
-def hanging(members, links):
-    """The sets of members that hang together, each sought from one on."""
-    left, found = set(members), []
-    while left:
-        reached = {min(left)}
-        while True:
-            onward = {two for one, two in links if one in reached}
-            more = reached | onward | {one for one, two in links if two in reached}
-            if more == reached:
-                break
-            reached = more
-        left -= reached
-        found.append(tuple(sorted(reached)))
-    return tuple(sorted(found))
-
-
-def own_parts(floor, lot):
-    return hanging([(i, j) for i in range(floor[0]) for j in range(floor[1])], lot)
-
-
-def own_lands(floor, lot):
-    crossed = [floors.sides(floor, tie) for tie in own_ties(floor) if tie not in lot]
-    return hanging([face for face in floors.faces(floor) if face[0] != "dot"], crossed)
-
-
-def own_joined(floor, lot):
-    """For each BLOCK the list of those with which it is joined, SITE by SITE and along the RIM."""
-    found = {block: [] for block in own_blocks(floor)}
-    kept = set()
-    for tie in own_ties(floor):
-        for one, two in itertools.combinations(site(floor, tie), 2):
-            like_dot = dot_of(floor, one) == dot_of(floor, two)
-            beside = abs(one[0] - two[0]) + abs(one[1] - two[1]) == 1
-            if beside and like_dot:
-                kept.add((one, two))
-            if beside and like_dot != (tie in lot):
-                found[one].append(two)
-                found[two].append(one)
-    for one, two in itertools.combinations(own_blocks(floor), 2):
-        beside = abs(one[0] - two[0]) + abs(one[1] - two[1]) == 1
-        if beside and dot_of(floor, one) == dot_of(floor, two) and (one, two) not in kept:
-            found[one].append(two)
-            found[two].append(one)
-    return found
 
 
 class Lots(unittest.TestCase):
@@ -212,8 +148,7 @@ class LotOfALaying(unittest.TestCase):
         for floor in SMALL:
             seen = {}
             for laying in all_layings(floor):
-                dots = [tuple(sorted({(x // 4, y // 4) for x, y in cells(own)})) for own in laying]
-                told = tuple(sorted({pair for pair in dots if len(pair) == 2}))
+                told = own_lot(laying)
                 self.assertEqual(lot_of(floor, laying), told)
                 seen[told] = seen.get(told, 0) + 1
             self.assertEqual(sorted(seen), own_lots(floor))
