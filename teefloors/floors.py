@@ -155,6 +155,11 @@ def dot_pair(block):
     return (block[0] // 2, block[1] // 2)
 
 
+def dot_face(block):
+    """The DOT that this BLOCK touches, as a FACE."""
+    return ("dot", *dot_pair(block))
+
+
 def outer_face(floor, block):
     """The outer FACE of this BLOCK."""
     face = ("inner", (block[0] - 1) // 2, (block[1] - 1) // 2)
@@ -175,11 +180,25 @@ def side_faces(floor, tie):
     return (outer_face(floor, first), outer_face(floor, (2 * i + 1, 2 * j + 1)))
 
 
+def site_blocks(tie):
+    """The list of the four BLOCKS of the SITE of this TIE, ascending."""
+    (i, j), (k, h) = tie
+    if k > i:
+        return [(a, b) for a in (2 * i + 1, 2 * k) for b in (2 * j, 2 * j + 1)]
+    return [(a, b) for a in (2 * i, 2 * i + 1) for b in (2 * j + 1, 2 * h)]
+
+
+def many_ties(floor):
+    """How many TIES floor has."""
+    return 2 * floor[0] * floor[1] - floor[0] - floor[1]
+
+
 def sizes(floor):
     """How many CELLS, BLOCKS, FACES and TIES there are."""
-    many, high = read_floor(floor)
+    floor = read_floor(floor)
+    many, high = floor
     many_faces = many * high + (many - 1) * (high - 1) + 1
-    return (16 * many * high, 4 * many * high, many_faces, 2 * many * high - many - high)
+    return (16 * many * high, 4 * many * high, many_faces, many_ties(floor))
 
 
 def block_of(floor, cell):
@@ -198,7 +217,7 @@ def cells_of_block(floor, block):
 
 def dot_of(floor, block):
     """The DOT that this BLOCK touches, as a FACE."""
-    return ("dot", *dot_pair(read_block(read_floor(floor), block)))
+    return dot_face(read_block(read_floor(floor), block))
 
 
 def outer_of(floor, block):
@@ -242,7 +261,7 @@ def touching_faces(floor, face):
     blocks = touching_blocks(floor, face)
     if face[0] == "dot":
         return tuple(sorted({outer_face(floor, block) for block in blocks}))
-    return tuple(sorted({("dot", *dot_pair(block)) for block in blocks}))
+    return tuple(sorted({dot_face(block) for block in blocks}))
 
 
 def touching(floor, face):
@@ -265,7 +284,4 @@ def sides(floor, tie):
 
 def site(floor, tie):
     """The set of the four BLOCKS of the SITE of this TIE."""
-    (i, j), (k, h) = read_tie(read_floor(floor), tie)
-    if k > i:
-        return tuple([(a, b) for a in (2 * i + 1, 2 * k) for b in (2 * j, 2 * j + 1)])
-    return tuple([(a, b) for a in (2 * i, 2 * i + 1) for b in (2 * j + 1, 2 * h)])
+    return tuple(site_blocks(read_tie(read_floor(floor), tie)))

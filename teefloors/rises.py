@@ -2,7 +2,7 @@
 
 from teefloors.errors import TooMany, Unfit
 from teefloors.floors import all_blocks, all_dots, dot_pair, looks_like_tie, outer_face, read_face, read_floor
-from teefloors.floors import RIM, side_faces, site, ties
+from teefloors.floors import RIM, side_faces, site_blocks, ties
 from teefloors.layings import blocks_laid, every_choice, read_laying
 from teefloors.pieces import sign_told, turned_over
 from teefloors.rounds import piece_gone
@@ -184,7 +184,7 @@ def layings_of(floor, rise):
         raise TooMany()
     laid = pieces_by_rise(floor, rise, ())
     # Each FLAT TIE has two PIECES of its own: told as cut or as tied, it leaves all others as they are.
-    turned = [turned_over(laid, site(floor, tie)) for tie in flat]
+    turned = [turned_over(laid, site_blocks(tie)) for tie in flat]
     moved = {block: True for anew in turned for block in anew}
     fixed = [piece for block, piece in laid.items() if block not in moved]
     return every_choice(fixed, [([laid[block] for block in anew], list(anew.values())) for anew in turned])

@@ -37,7 +37,8 @@ def rounds_of_lot(floor, lot):
         # As BLOCKS come ascending, so do the ROUNDS by their least ones.
         if block not in seen:
             walk = walk_left(quick, block)
-            seen.update({own: True for own in walk})
+            for own in walk:
+                seen[own] = True
             found.append(tuple(sorted(walk)))
     return tuple(found)
 
@@ -109,15 +110,20 @@ def rounds_by_lands(floor, lot):
     return len(parts_of_lot(floor, lot)) + len(lands_of_lot(floor, lot)) - 1
 
 
+def more_rounds(named, tie):
+    """How many ROUNDS more there are with this TIE put in; named leads from DOTS to names, one for each part."""
+    # Between two parts it makes one ROUND of two, within a part two of one.
+    return -1 if join_names(named, *tie) else 1
+
+
 def rounds_tie_by_tie(floor, lot):
     """How many ROUNDS there are with none of the TIES of lot, with the least one, and so on, with all."""
     floor = read_floor(floor)
     lot = read_lot(floor, lot)
     named = {dot: dot for dot in all_dots(floor)}
     many = [len(named)]
-    for one, other in lot:
-        # A TIE put in between two parts makes one ROUND of two, within a part two of one.
-        many.append(many[-1] - 1 if join_names(named, one, other) else many[-1] + 1)
+    for tie in lot:
+        many.append(many[-1] + more_rounds(named, tie))
     return tuple(many)
 
 

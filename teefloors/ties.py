@@ -2,7 +2,7 @@
 
 from teefloors.errors import TooMany, Unfit
 from teefloors.floors import all_dots, all_inners, away, dot_pair, has_tie, looks_like_tie, need_block
-from teefloors.floors import RIM, read_floor, side_faces, tie_over, ties
+from teefloors.floors import many_ties, RIM, read_floor, side_faces, tie_over, ties
 from teefloors.layings import read_laying
 from teefloors.pieces import block_in, gone_to
 from teefloors.values import is_ascending, read_pair, tupled
@@ -35,7 +35,7 @@ def is_lot(floor, thing):
 def lots(floor):
     """The list, ascending, of all LOTS; TooMany() above 12 TIES."""
     floor = read_floor(floor)
-    if 2 * floor[0] * floor[1] - floor[0] - floor[1] > MOST_TIES:
+    if many_ties(floor) > MOST_TIES:
         raise TooMany()
     found = [()]
     for tie in reversed(ties(floor)):

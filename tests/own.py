@@ -77,7 +77,7 @@ def own_ends(tie):
 @functools.lru_cache(None)
 def own_site(tie):
     """The BLOCKS of both ends that lie side by side with one of the other end."""
-    first, second = [[block for block in own_blocks((9, 9)) if own_dot(block) == end] for end in own_ends(tie)]
+    first, second = [[(2 * i + x, 2 * j + y) for x in (0, 1) for y in (0, 1)] for i, j in tie]
     pairs = [(one, two) for one in first for two in second if side_by_side(one, two)]
     return sorted({block for pair in pairs for block in pair})
 

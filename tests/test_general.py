@@ -4,7 +4,8 @@ import copy
 import inspect
 import unittest
 
-from teefloors import floors, goings, lattice, layings, mirrored, pieces, rises, rounds, signs, ties
+from teefloors import fewest, floors, goings, lattice, layings, mirrored, pieces, rises, rounds, signs, squares, sums
+from teefloors import ties, told as told_pieces
 from tests.helpers import caught, listed, told_error
 from tests.test_interface import FUNCTIONS
 
@@ -13,6 +14,9 @@ TWO = ((0, 2, 0), (1, 0, 1), (2, 3, 3), (3, 1, 2))
 TIE = ((0, 0), (1, 0))
 RISE = (((1, 1), (1, 1)), ((0,),))
 HILL = (((1, 1), (1, 1)), ((2,),))
+SQUARE, PAIR = ("square", ("dot", 0, 0)), ("pair", TIE)
+BESIDE = ((0, 1, 0), (1, 3, 3), (2, 0, 1), (3, 2, 2), (4, 1, 0), (5, 3, 3), (6, 0, 1), (7, 2, 2))
+TWICE = ((0, 1, 0), (1, 0, 1))
 
 # For each function calls that return, and calls that raise with a value in the error.
 CALLS = {
@@ -90,6 +94,34 @@ CALLS = {
         "rounds_about": [((2, 1), (TIE,), ("dot", 0, 0)), ((2, 1), (TIE,), ("inner", 0, 0))],
         "outer_rounds": [((2, 1), (TIE,))], "turns_of": [((2, 1), (), (1, -1)), ((2, 1), (), (1,))],
         "height_by_rounds": [((1, 1), ONE, ("dot", 0, 0)), ((1, 1), ONE, ("dot", 1, 0))],
+    },
+    sums: {
+        "sum_by_lots": [((2, 2),), ((3, 3),)], "lot_table": [((2, 2),), ((3, 3),)],
+        "lots_with": [((2, 2), 2), ((3, 3), 2)], "sum_by_rises": [((2, 2),), ((3, 4),)],
+        "rise_table": [((2, 2),), ((3, 4),)], "flattest": [((2, 2),), ((3, 4),)],
+        "sum_by_ties": [((2, 2),), ((3, 3),)], "even_chance": [((2, 2), (TIE,)), ((3, 3), (TIE,))],
+    },
+    squares: {
+        "is_deed": [((2, 1), BESIDE, PAIR), ((1, 1), ONE, PAIR)], "deeds": [((2, 1), BESIDE)],
+        "done": [((2, 1), BESIDE, PAIR), ((1, 1), ONE, PAIR)],
+        "laid_anew": [((2, 1), BESIDE, SQUARE), ((1, 1), ONE, PAIR)],
+        "behind": [((2, 1), BESIDE, (PAIR, PAIR, SQUARE)), ((2, 1), BESIDE, (PAIR, SQUARE))],
+        "layings_along": [((2, 1), BESIDE, (SQUARE, SQUARE, PAIR)), ((2, 1), BESIDE, (PAIR, SQUARE))],
+        "is_done_by": [((2, 1), BESIDE, (SQUARE,)), ((2, 1), BESIDE, (PAIR, SQUARE))],
+        "undone": [((2, 1), (SQUARE, PAIR)), ((1, 1), (PAIR,))], "deed_between": [((1, 1), ONE, TWO), ((1, 1), ONE, ONE)],
+    },
+    fewest: {
+        "fewest": [((1, 1), ONE, TWO)], "shares": [((1, 1), ONE, TWO)], "first_faces": [((1, 1), ONE, TWO)],
+        "plan": [((1, 1), ONE, TWO)], "is_plan": [((1, 1), ONE, TWO, (SQUARE,)), ((1, 1), ONE, ONE, (SQUARE,))],
+        "many_squares": [((2, 1), (SQUARE, PAIR, SQUARE)), ((1, 1), (PAIR,))], "farthest": [((3, 3),)],
+    },
+    told_pieces: {
+        "is_told": [((1, 1), TWICE), ((1, 1), TWICE[::-1])], "signs_told": [((1, 1), TWICE)],
+        "ties_told": [((2, 1), ((2, 3, 0), (3, 2, 1)))], "both_ways": [((2, 1), ((3, 2, 1), (3, 2, 2)))],
+        "bound": [((1, 1), TWICE, ("rim",), ("dot", 0, 0)), ((1, 1), TWICE, ("rim",), ("rim",))],
+        "ring_bound": [((1, 1), TWICE, (("rim",), ("dot", 0, 0), ("rim",))), ((1, 1), TWICE, (("rim",),))],
+        "falling_ring": [((1, 1), TWICE), ((1, 1), ONE)],
+        "is_falling_ring": [((1, 1), TWICE, (("rim",), ("dot", 0, 0), ("rim",))), ((1, 1), ONE, (("rim",),))],
     },
 }
 

@@ -3,7 +3,9 @@
 import inspect
 import unittest
 
-from teefloors import errors, floors, goings, lattice, layings, mirrored, pieces, rises, rounds, signs, ties
+from teefloors import (
+    errors, fewest, floors, goings, lattice, layings, mirrored, pieces, rises, rounds, signs, squares, sums, ties, told,
+)
 
 # Each function of the interface that has landed, with the names of its arguments in order.
 FUNCTIONS = {
@@ -59,6 +61,25 @@ FUNCTIONS = {
         "all_turned": "floor laying", "rounds_about": "floor lot face", "outer_rounds": "floor lot",
         "turns_of": "floor lot goings", "height_by_rounds": "floor laying face",
     },
+    sums: {
+        "sum_by_lots": "floor", "lot_table": "floor", "lots_with": "floor number", "sum_by_rises": "floor",
+        "rise_table": "floor", "flattest": "floor", "sum_by_ties": "floor", "even_chance": "floor lot",
+    },
+    squares: {
+        "is_deed": "floor laying thing", "deeds": "floor laying", "done": "floor laying deed",
+        "laid_anew": "floor laying deed", "behind": "floor laying plan", "layings_along": "floor laying plan",
+        "is_done_by": "floor laying thing", "undone": "floor plan", "deed_between": "floor laying other",
+    },
+    fewest: {
+        "fewest": "floor laying other", "shares": "floor laying other", "first_faces": "floor laying other",
+        "plan": "floor laying other", "is_plan": "floor laying other thing", "many_squares": "floor plan",
+        "farthest": "floor",
+    },
+    told: {
+        "is_told": "floor thing", "signs_told": "floor told", "ties_told": "floor told", "both_ways": "floor told",
+        "bound": "floor told face other", "ring_bound": "floor told ring", "falling_ring": "floor told",
+        "is_falling_ring": "floor told thing",
+    },
 }
 
 ERRORS = {
@@ -77,10 +98,10 @@ class Interface(unittest.TestCase):
                     function = getattr(module, name)
                     self.assertTrue(inspect.isfunction(function))
                     self.assertEqual(function.__module__, module.__name__)
-                    told = inspect.signature(function).parameters.values()
-                    self.assertEqual([one.name for one in told], arguments.split())
-                    self.assertEqual({one.kind for one in told}, {inspect.Parameter.POSITIONAL_OR_KEYWORD})
-                    self.assertEqual({one.default for one in told}, {inspect.Parameter.empty})
+                    given = inspect.signature(function).parameters.values()
+                    self.assertEqual([one.name for one in given], arguments.split())
+                    self.assertEqual({one.kind for one in given}, {inspect.Parameter.POSITIONAL_OR_KEYWORD})
+                    self.assertEqual({one.default for one in given}, {inspect.Parameter.empty})
 
     def test_errors(self):
         for name, (base, attribute) in ERRORS.items():
@@ -103,8 +124,8 @@ class Interface(unittest.TestCase):
                 self.assertEqual(getattr(error, attribute), [[0, 0], [1, 1]])
 
     def test_no_errors_beyond(self):
-        told = [name for name, value in vars(errors).items() if inspect.isclass(value)]
-        self.assertEqual(sorted(told), sorted(ERRORS))
+        found = [name for name, value in vars(errors).items() if inspect.isclass(value)]
+        self.assertEqual(sorted(found), sorted(ERRORS))
 
 
 if __name__ == "__main__":
