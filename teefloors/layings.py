@@ -5,8 +5,7 @@ from teefloors.floors import all_blocks, all_cells, dot_pair, has_cell, need_blo
 from teefloors.pieces import are_pieces, block_in, lying_of, piece_cells, pieces_of, read_pieces, sign_told
 from teefloors.values import is_ascending, is_number, read_pair, tupled
 
-MOST_LAYINGS = 2000
-MOST_DOTS = 10
+MOST_DOTS = 7
 MOST_PLAIN_CELLS = 64
 
 
@@ -99,11 +98,8 @@ def some_laying(floor):
     return tuple(sorted(found))
 
 
-def coverings(cells, pieces, most):
-    """The sets of these PIECES that have each of these CELLS, ascending, once.
-
-    If there are more than most, the search ends with one more.
-    """
+def coverings(cells, pieces):
+    """The list, ascending, of the sets of these PIECES that have each of these CELLS, ascending, once."""
     places = {cell: at for at, cell in enumerate(cells)}
     beginning = {cell: [] for cell in cells}
     for piece in pieces:
@@ -112,7 +108,7 @@ def coverings(cells, pieces, most):
         beginning[own_cells[0]].append((piece, mask))
     found = []
     waiting = [(0, 0, ())]
-    while waiting and len(found) <= most:
+    while waiting:
         at, covered, chosen = waiting.pop()
         while (covered >> at) & 1 == 1:
             at += 1
@@ -123,21 +119,20 @@ def coverings(cells, pieces, most):
         for piece, mask in beginning[cells[at]]:
             if (covered & mask) == 0:
                 waiting.append((at + 1, covered | mask, (*chosen, piece)))
-    return found
+    return sorted(found)
 
 
 def all_layings(floor):
     """The list, ascending, of all LAYINGS; TooMany() if they are more than 2,000."""
     floor = read_floor(floor)
-    # Each DOT by itself can be laid in two ways, which makes 2 to the number of DOTS at the least.
+    # Of a tree of TIES that hangs all DOTS together each TIE may be cut or tied: cut, it leaves one ROUND
+    # more, gone one way or the other. So there are 2 times 3 to the number of these TIES at the least:
+    # 4,374 with 8 DOTS. With 7 or fewer there are never more than 1,458.
     if floor[0] * floor[1] > MOST_DOTS:
         raise TooMany()
     # In a LAYING lie only PIECES that are one of the four of their BLOCK.
     lying = [piece for block in all_blocks(floor) for piece in lying_of(floor, block)]
-    found = coverings(all_cells(floor), lying, MOST_LAYINGS)
-    if len(found) > MOST_LAYINGS:
-        raise TooMany()
-    return sorted(found)
+    return coverings(all_cells(floor), lying)
 
 
 def plain_layings(many, high):
@@ -150,5 +145,4 @@ def plain_layings(many, high):
     field = {cell: True for cell in cells}
     pieces = [(x, y, way) for x, y in cells for way in range(4)]
     inside = [piece for piece in pieces if all([cell in field for cell in piece_cells(piece)])]
-    # So few CELLS have no more than 84 of them, so none is left out.
-    return sorted(coverings(cells, inside, MOST_LAYINGS))
+    return coverings(cells, inside)

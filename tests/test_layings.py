@@ -2,11 +2,13 @@
 
 import random
 import unittest
+import unittest.mock
 
 from teefloors import errors, layings
 from teefloors.layings import (
     all_layings, first_gap, first_overlap, is_laying, piece_at, piece_of_block, plain_layings, some_laying,
 )
+from teefloors.mirrored import unlike_layings
 from teefloors.pieces import four_of
 from tests.helpers import (
     FEW_LAYINGS, FLOORS, ODD, cells, check_raises, check_transcript, check_unfit, found_layings, listed,
@@ -76,6 +78,13 @@ class AllLayings(unittest.TestCase):
             if floor not in few:
                 check_raises(self, "TooMany()", all_layings, floor)
                 check_raises(self, "TooMany()", all_layings, floor=list(floor))
+
+    def test_refused_without_a_search(self):
+        with unittest.mock.patch.object(layings, "coverings", side_effect=AssertionError("a search")):
+            for function in (all_layings, unlike_layings):
+                for floor in ((3, 3), (2, 4), (4, 2), (1, 8), (8, 1), (8, 8), (10 ** 9, 10 ** 9)):
+                    check_raises(self, "TooMany()", function, floor)
+                    check_raises(self, "TooMany()", function, list(floor))
 
     def test_guarantees(self):
         for floor in FEW_LAYINGS:

@@ -6,6 +6,7 @@ import unittest
 
 from teefloors import errors, sums
 from teefloors.layings import all_layings
+from teefloors.mirrored import unlike_layings
 from teefloors.sums import (
     even_chance, flattest, lot_table, lots_with, rise_table, sum_by_lots, sum_by_rises, sum_by_ties,
 )
@@ -72,6 +73,15 @@ class ThreeSums(unittest.TestCase):
             self.assertEqual(len(own_layings(floor)), many)
             self.assertEqual({sum_by_lots(floor), sum_by_rises(floor), sum_by_ties(floor)}, {many})
             self.assertEqual(len(all_layings(floor)), many)
+
+    def test_lists_of_layings_end_at_2000(self):
+        for floor in FEW_TIES:
+            many = sum(2 ** rounds for rounds in own_counts(floor).values())
+            if many > 2000:
+                check_raises(self, "TooMany()", all_layings, floor)
+                check_raises(self, "TooMany()", unlike_layings, floor)
+            else:
+                self.assertEqual(len(all_layings(floor)), many)
 
     def test_by_rises_alone(self):
         for floor in FEW_RISES:
