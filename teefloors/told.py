@@ -72,6 +72,11 @@ def sum_round(bounds, ring):
     return sum([bounds[step] for step in zip(ring, ring[1:])])
 
 
+def falls_by(bounds, value):
+    """Whether value, whatever it is, is a RING that falls by these bounds."""
+    return is_ring_by(bounds, value) and sum_round(bounds, value) < 0
+
+
 def ring_back(ahead, face):
     """The RING that one comes round from this FACE, which is on it; ahead leads from each FACE back to one."""
     ring = [face]
@@ -166,5 +171,4 @@ def falling_ring(floor, told):
 def is_falling_ring(floor, told, thing):
     """Whether thing is a RING that falls."""
     floor = read_floor(floor)
-    bounds = bounds_by(floor, read_told(floor, told))
-    return is_ring_by(bounds, thing) and sum_round(bounds, thing) < 0
+    return falls_by(bounds_by(floor, read_told(floor, told)), thing)

@@ -8,6 +8,11 @@ def is_number(value):
     return isinstance(value, int) and not isinstance(value, bool)
 
 
+def is_count(value):
+    """Whether value is a number from 0."""
+    return is_number(value) and value >= 0
+
+
 def are_numbers(value, many):
     """Whether value is a tuple of just so many numbers."""
     if not isinstance(value, tuple) or len(value) != many:
@@ -42,5 +47,12 @@ def read_pair(value):
 def read_below(value, bound):
     """The number from 0 below bound that was handed in; Unfit() if it is none."""
     if not is_number(value) or not 0 <= value < bound:
+        raise Unfit()
+    return value
+
+
+def read_count(value):
+    """The number from 0 that was handed in; Unfit() if it is none."""
+    if not is_count(value):
         raise Unfit()
     return value

@@ -1,13 +1,15 @@
 """The interface: point [26]."""
 
 import inspect
+import pathlib
 import unittest
 
 from teefloors import (
-    errors, fewest, floors, goings, lattice, layings, mirrored, pieces, rises, rounds, signs, squares, sums, ties, told,
+    counts, errors, fewest, finished, floors, goings, lattice, layings, mirrored, numbered, pieces, rises, rounds, signs,
+    squares, sums, texts, ties, told,
 )
 
-# Each function of the interface that has landed, with the names of its arguments in order.
+# Each function of the interface, with the names of its arguments in order.
 FUNCTIONS = {
     signs: {"words": "text", "text_of": "words", "number_of": "word", "word_of": "number"},
     floors: {
@@ -80,6 +82,25 @@ FUNCTIONS = {
         "bound": "floor told face other", "ring_bound": "floor told ring", "falling_ring": "floor told",
         "is_falling_ring": "floor told thing",
     },
+    finished: {
+        "can_finish": "floor told", "finished": "floor told", "why_not": "floor told", "is_why_not": "floor told thing",
+        "least_finished": "floor told", "greatest_finished": "floor told", "height_span": "floor told face",
+        "can_lie_beside": "floor told piece", "sure_pieces": "floor told", "sure_ties": "floor told",
+    },
+    counts: {
+        "many_layings": "floor told", "many_rises": "floor told", "share_of": "floor told piece",
+        "block_shares": "floor told block", "many_above": "floor rise", "height_counts": "floor face",
+        "flat_counts": "floor",
+    },
+    numbered: {
+        "block_row": "floor laying", "how_many_begin": "floor pieces", "next_pieces": "floor pieces",
+        "laying_number": "floor laying", "laying_at": "floor number", "first_laying": "floor", "last_laying": "floor",
+        "next_laying": "floor laying", "laying_ahead": "floor laying", "layings_from": "floor number many",
+    },
+    texts: {
+        "picture": "floor laying", "read_picture": "text", "is_sheet": "thing", "sheet_text": "sheet",
+        "read_sheet": "text",
+    },
 }
 
 ERRORS = {
@@ -102,6 +123,17 @@ class Interface(unittest.TestCase):
                     self.assertEqual([one.name for one in given], arguments.split())
                     self.assertEqual({one.kind for one in given}, {inspect.Parameter.POSITIONAL_OR_KEYWORD})
                     self.assertEqual({one.default for one in given}, {inspect.Parameter.empty})
+
+    def test_each_name_of_the_document(self):
+        """The names of each file, as the last section of the document lists them."""
+        text = (pathlib.Path(__file__).resolve().parent.parent.parent / "shared" / "DOC.md")
+        if not text.exists():
+            self.skipTest("the document is not here")
+        listed = text.read_text(encoding="utf-8").split("**[26]**")[1]
+        for module, functions in FUNCTIONS.items():
+            path = module.__name__.replace(".", "/") + ".py: "
+            names = listed.split(path)[1].split(" ([")[0].split(", ")
+            self.assertEqual(names, list(functions), path)
 
     def test_errors(self):
         for name, (base, attribute) in ERRORS.items():

@@ -2,6 +2,7 @@
 
 import ast
 import builtins
+import functools
 import pathlib
 import re
 import unittest
@@ -34,6 +35,7 @@ BARRED = set("""
     NamedTuple TypedDict TYPE_CHECKING abstractmethod dataclass overload contextmanager register mro elements open
     input law version_info with_traceback add_note
 """.split())
+OBJECT = {"__init__", "__eq__"}
 BARRED_NODES = (
     ast.Global, ast.AsyncFunctionDef, ast.AsyncFor, ast.AsyncWith, ast.Await, ast.Import, ast.GeneratorExp, ast.Div,
 )
@@ -54,6 +56,21 @@ def module_names(tree):
         elif isinstance(row, ast.Assign):
             found.extend(one.id for one in row.targets)
     return found
+
+
+@functools.lru_cache(None)
+def own_methods():
+    """The names of all methods of the classes of the package."""
+    classes = [row for file in FILES if file.suffix == ".py" for row in tree_of(file).body if isinstance(row, ast.ClassDef)]
+    return {row.name for one in classes for row in one.body if isinstance(row, ast.FunctionDef)}
+
+
+def is_table_of_functions(tree, value):
+    """Whether value is a dict from strings to functions that are defined ahead of it in this file."""
+    ahead = {row.name for row in tree.body if isinstance(row, ast.FunctionDef) and row.lineno < value.lineno}
+    if not isinstance(value, ast.Dict) or not all(isinstance(one, ast.Constant) for one in value.keys):
+        return False
+    return all(isinstance(one, ast.Name) and one.id in ahead for one in value.values)
 
 
 def local_names(function):
@@ -99,7 +116,7 @@ class Files(unittest.TestCase):
             self.assertIsNotNone(ast.get_docstring(tree))
             for row in tree.body[1:]:
                 self.assertIsInstance(row, (ast.ImportFrom, ast.FunctionDef, ast.ClassDef, ast.Assign))
-                if isinstance(row, ast.Assign):
+                if isinstance(row, ast.Assign) and not is_table_of_functions(tree, row.value):
                     ast.literal_eval(row.value)
             names = module_names(tree)
             self.assertEqual(len(names), len(set(names)))
@@ -163,7 +180,22 @@ class Files(unittest.TestCase):
                     self.assertNotIsInstance(node.value, (float, complex))
                     self.assertNotIn("%", str(node.value))
                 if isinstance(node, ast.Call) and isinstance(node.func, ast.Attribute):
-                    self.assertIn(node.func.attr, METHODS)
+                    self.assertIn(node.func.attr, METHODS | own_methods())
+
+    def test_classes(self):
+        """No name is a method of one class and an attribute of any, and no attribute is read that none assigns."""
+        methods, assigned, read = own_methods(), set(), set()
+        for _, tree in self.each():
+            for node in ast.walk(tree):
+                if isinstance(node, ast.Attribute):
+                    (assigned if isinstance(node.ctx, ast.Store) else read).add(node.attr)
+                if isinstance(node, ast.ClassDef):
+                    names = [row.name for row in node.body if isinstance(row, ast.FunctionDef)]
+                    self.assertEqual(len(names), len(set(names)))
+                    self.assertFalse(set(names) & set(dir(int) + dir(str) + dir(list) + dir(dict) + dir(bytes)) - OBJECT)
+        self.assertFalse(methods & assigned)
+        self.assertLessEqual(read, assigned | methods | METHODS)
+        self.assertFalse(assigned & METHODS)
 
     def test_sets(self):
         """A set stands in sorted(..), in len(..), or between two signs there."""
