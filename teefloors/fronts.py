@@ -9,6 +9,7 @@ the same behind it, or, if they are unlike, maybe the other way round.
 
 from teefloors.errors import TooMany
 from teefloors.floors import dot_face, outer_face, tie_over
+from teefloors.lattice import rise_by
 from teefloors.pieces import block_in, sign_told, told_of_tie
 from teefloors.rises import height_at
 
@@ -210,6 +211,26 @@ class Fronts:
         """How many there are in all: counted behind the rank of this BLOCK, as all counts but those about it stay."""
         rank = min(self.rank_of(block) + 1, self._last)
         return sum(self.many_by_front(rank).values())
+
+    def all_ways(self):
+        """The list of all rows of fronts, one for each rank, that stand one behind the other in what is counted."""
+        ways = [[front] for front in self.many_by_front(0)]
+        for rank in range(self._last):
+            fit = self.many_by_front(rank + 1)
+            leads = {}
+            for way in ways:
+                if way[-1] not in leads:
+                    leads[way[-1]] = [front for front in self._past(rank, {way[-1]: 1}) if front in fit]
+            ways = [[*way, front] for way in ways for front in leads[way[-1]]]
+        return ways
+
+    def rise_along(self, way):
+        """The RISE with this row of fronts."""
+        heights = {}
+        for rank, front in enumerate(way):
+            for face, now in zip(self.faces_along(rank), heights_along(front, self._wide)):
+                heights[face] = now
+        return rise_by(self._floor, heights)
 
     def many_with(self, piece):
         """How many there are with this PIECE, too."""

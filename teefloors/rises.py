@@ -117,6 +117,16 @@ def pieces_by_rise(floor, rise, book):
     return {block: piece_gone(lot, block, sign_at(floor, rise, block)) for block in all_blocks(floor)}
 
 
+def layings_by_rise(floor, rise, book, free):
+    """The list, ascending, of the LAYINGS of floor with this RISE and with book, or more of the free FLAT TIES."""
+    laid = pieces_by_rise(floor, rise, book)
+    # Each FLAT TIE has two PIECES of its own: told as cut or as tied, it leaves all others as they are.
+    turned = [turned_over(laid, site_blocks(tie)) for tie in free]
+    moved = {block: True for anew in turned for block in anew}
+    fixed = [piece for block, piece in laid.items() if block not in moved]
+    return every_choice(fixed, [([laid[block] for block in anew], list(anew.values())) for anew in turned])
+
+
 def is_rise(floor, thing):
     """Whether thing is a RISE of floor."""
     return is_rise_of(read_floor(floor), thing)
@@ -182,12 +192,7 @@ def layings_of(floor, rise):
     flat = flat_of(floor, rise)
     if len(flat) > MOST_FLAT:
         raise TooMany()
-    laid = pieces_by_rise(floor, rise, ())
-    # Each FLAT TIE has two PIECES of its own: told as cut or as tied, it leaves all others as they are.
-    turned = [turned_over(laid, site_blocks(tie)) for tie in flat]
-    moved = {block: True for anew in turned for block in anew}
-    fixed = [piece for block, piece in laid.items() if block not in moved]
-    return every_choice(fixed, [([laid[block] for block in anew], list(anew.values())) for anew in turned])
+    return layings_by_rise(floor, rise, (), flat)
 
 
 def many_of(floor, rise):

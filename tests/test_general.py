@@ -4,8 +4,8 @@ import copy
 import inspect
 import unittest
 
-from teefloors import counts, fewest, finished, floors, goings, lattice, layings, mirrored, numbered, pieces, rises
-from teefloors import rounds, signs, squares, sums, texts, ties, told as told_pieces
+from teefloors import counts, fewest, finished, floors, goings, judge, lattice, layings, middles, mirrored, numbered
+from teefloors import pieces, rises, rounds, seams, signs, squares, sums, texts, ties, told as told_pieces
 from tests.helpers import caught, listed, told_error
 from tests.test_interface import FUNCTIONS
 
@@ -19,6 +19,9 @@ BESIDE = ((0, 1, 0), (1, 3, 3), (2, 0, 1), (3, 2, 2), (4, 1, 0), (5, 3, 3), (6, 
 TWICE = ((0, 1, 0), (1, 0, 1))
 BOTH = ((3, 2, 1), (3, 2, 2))
 ROW = ((0, 1, 0), (1, 3, 3), (2, 0, 1), (3, 2, 2), (4, 1, 0), (5, 3, 3), (6, 0, 1), (7, 2, 2))
+KNOT = ((0, 1, 0), (1, 3, 3), (2, 0, 1), (3, 2, 1), (4, 1, 3), (5, 3, 3), (6, 0, 1), (7, 2, 2))
+MANY, FEW, ALL = ("many", (1, 1), (), 2), ("many", (1, 1), (), 1), ("many", (3, 3), (), 5)
+APART = ("fewest", (1, 1), ONE, TWO, 0)
 
 # For each function calls that return, and calls that raise with a value in the error.
 CALLS = {
@@ -155,6 +158,29 @@ CALLS = {
         "is_sheet": [(((2, 1), ONE, (SQUARE, PAIR)),), (((2, 1), (), None),)],
         "sheet_text": [(((2, 1), ONE, (SQUARE, PAIR)),), (((1, 1), (), (("square", ("rim",)),)),)],
         "read_sheet": [("floor 2 1\npiece 0 1 0\nsquare dot 0 0\npair 0 0 1 0",), ("floor 1 1\n\npair 0 0 0 0",)],
+    },
+    middles: {
+        "middle_rise": [((1, 1), (ONE, TWO, ONE)), ((1, 1), (ONE, TWO))], "middle": [((1, 1), (ONE, TWO, ONE)), ((1, 1), ())],
+        "is_middle": [((1, 1), (ONE, TWO, ONE), ONE), ((1, 1), (ONE, TWO, ONE), TWO)],
+        "kept_by_all": [((1, 1), (ONE, ONE, ONE)), ((1, 1), (ONE, TWO, ONE))],
+        "sum_to": [((1, 1), TWO, (ONE, TWO, ONE))], "is_between": [((1, 1), ONE, TWO, TWO), ((1, 1), ONE, ONE, TWO)],
+        "rises_between": [((1, 1), ONE, TWO), ((1, 1), ONE, ONE)],
+    },
+    seams: {
+        "is_line": [((2, 1), (0, 1)), ((2, 1), (1, 1))], "ties_across": [((2, 2), (0, 1)), ((2, 1), (1, 1))],
+        "faces_on": [((2, 2), (1, 1)), ((2, 1), (0, 1))], "pieces_across": [((2, 1), KNOT, (0, 1)), ((2, 1), BESIDE, (0, 1))],
+        "seams": [((2, 1), BESIDE), ((2, 1), KNOT)], "parted_at": [((2, 1), BESIDE, (0, 1)), ((2, 1), KNOT, (0, 1))],
+        "put_beside": [((1, 1), ONE, (1, 1), TWO, 1), ((1, 1), ONE, (2, 1), BESIDE, 1)],
+        "nearest_parted": [((2, 1), KNOT, (0, 1)), ((2, 1), KNOT, (0, 2))],
+        "squares_to_part": [((2, 1), KNOT, (0, 1)), ((2, 1), KNOT, (0, 2))],
+    },
+    judge: {
+        "is_demand": [(MANY,), (("many", (1, 1), (), -1),)], "is_so": [(MANY,), (FEW,), (ALL,), (("many",),)],
+        "paper_against": [(MANY,), (FEW,), (ALL,), (APART,), (("rounds", (2, 1), (), 1),), (("finish", (1, 1), TWICE),)],
+        "is_paper_against": [(MANY, (ONE, TWO)), (FEW, (ONE, TWO)), (APART, (((2,),), ())), (ALL, ())],
+        "reason_for": [(MANY,), (FEW,), (ALL,), (("fewest", (1, 1), ONE, TWO, 1),), (("rounds", (2, 1), (TIE,), 1),)],
+        "is_reason_for": [(MANY, (ONE, TWO)), (FEW, (ONE, TWO)), (("finish", (1, 1), ()), TWO), (ALL, ())],
+        "first_fallen": [((MANY, FEW),), ((MANY, MANY),), ((FEW, ALL),), ((FEW, None),), ((MANY, ALL),)],
     },
 }
 

@@ -5,8 +5,8 @@ import pathlib
 import unittest
 
 from teefloors import (
-    counts, errors, fewest, finished, floors, goings, lattice, layings, mirrored, numbered, pieces, rises, rounds, signs,
-    squares, sums, texts, ties, told,
+    counts, desk, errors, fewest, finished, floors, goings, judge, lattice, layings, middles, mirrored, numbered, pieces,
+    rises, rounds, seams, signs, squares, sums, texts, ties, told,
 )
 
 # Each function of the interface, with the names of its arguments in order.
@@ -101,7 +101,26 @@ FUNCTIONS = {
         "picture": "floor laying", "read_picture": "text", "is_sheet": "thing", "sheet_text": "sheet",
         "read_sheet": "text",
     },
+    middles: {
+        "middle_rise": "floor layings", "middle": "floor layings", "is_middle": "floor layings thing",
+        "kept_by_all": "floor layings", "sum_to": "floor laying layings", "is_between": "floor laying other thing",
+        "rises_between": "floor laying other",
+    },
+    seams: {
+        "is_line": "floor thing", "ties_across": "floor line", "faces_on": "floor line",
+        "pieces_across": "floor laying line", "seams": "floor laying", "parted_at": "floor laying line",
+        "put_beside": "floor laying other_floor other way", "nearest_parted": "floor laying line",
+        "squares_to_part": "floor laying line",
+    },
+    judge: {
+        "is_demand": "thing", "is_so": "demand", "paper_against": "demand", "is_paper_against": "demand thing",
+        "reason_for": "demand", "is_reason_for": "demand thing", "first_fallen": "demands",
+    },
 }
+
+# The one class of the interface that is no error, with its methods.
+DESK = {"__init__": "floor laying", "say": "text", "floor": "", "laying": "", "first": "", "undo": "", "redo": "",
+        "twin": "", "__eq__": "other"}
 
 ERRORS = {
     "NoBlock": (LookupError, "block"), "NoCell": (LookupError, "cell"), "NoFace": (LookupError, "face"),
@@ -134,6 +153,12 @@ class Interface(unittest.TestCase):
             path = module.__name__.replace(".", "/") + ".py: "
             names = listed.split(path)[1].split(" ([")[0].split(", ")
             self.assertEqual(names, list(functions), path)
+
+    def test_desk(self):
+        self.assertEqual((desk.Desk.__module__, desk.Desk.__bases__), ("teefloors.desk", (object,)))
+        for name, arguments in DESK.items():
+            given = list(inspect.signature(vars(desk.Desk)[name]).parameters)
+            self.assertEqual(given, ["self", *arguments.split()])
 
     def test_errors(self):
         for name, (base, attribute) in ERRORS.items():
