@@ -1,12 +1,12 @@
 """TOLD finished to LAYINGS: one that has them, or why there is none, and what all that have them share."""
 
 from teefloors.errors import CanNot
-from teefloors.floors import all_blocks, dot_face, faces, has_block, looks_like_tie, outer_face, read_floor
+from teefloors.floors import all_blocks, dot_face, faces, has_block, looks_like_tie, outer_face, read_floor, RIM
 from teefloors.lattice import rise_by, steps_from_rim
 from teefloors.pieces import block_in, lies_on, pieces_of, read_piece, sign_told, told_of_tie
 from teefloors.rises import flat_of, height_at, pieces_by_rise
-from teefloors.told import bounds_by, falls_by, lower_once, read_fit_face, read_told, ring_that_falls
-from teefloors.told import ties_by, ties_told_twice
+from teefloors.told import bounds_by, falls_by, read_fit_face, read_told, ring_that_falls, ties_by
+from teefloors.told import ties_told_twice
 
 
 def put_in(told, piece):
@@ -47,12 +47,33 @@ def is_why(floor, told, value):
     return word == "ring" and falls_by(bounds_by(floor, told), reason)
 
 
+def lower_from(leads, heights, turn):
+    """Lower each height to which a STEP leads from a FACE of turn to what its bound allows; the list of these FACES."""
+    lowered = {}
+    for face in turn:
+        for other, most in leads[face]:
+            if heights[other] > heights[face] + most:
+                heights[other] = heights[face] + most
+                lowered[other] = True
+    return list(lowered)
+
+
 def most_heights(floor, bounds):
-    """A dict from each FACE of floor to the least sum of bounds on a way from the RIM to it; no RING falls."""
-    heights = {face: steps_from_rim(floor, face) for face in faces(floor)}
-    while lower_once(bounds, heights, {}) is not None:
-        pass
-    return heights
+    """A dict from each FACE of floor to the least sum of bounds on a way from the RIM to it; None if a RING falls."""
+    leads = {face: [] for face in faces(floor)}
+    for (face, other), most in bounds.items():
+        leads[face].append((other, most))
+    heights = {face: steps_from_rim(floor, face) for face in leads}
+    turn = list(leads)
+    # Where a RING falls, all heights sink without an end, at last that of the RIM, too; else this stays 0.
+    while turn != [] and heights[RIM] == 0:
+        turn = lower_from(leads, heights, turn)
+    return heights if heights[RIM] == 0 else None
+
+
+def has_some(floor, told):
+    """Whether some LAYING of floor has told: known sooner than by why_none, which must come to a RING, too."""
+    return ties_told_twice(floor, told) == () and most_heights(floor, bounds_by(floor, told)) is not None
 
 
 def least_heights(floor, bounds):

@@ -8,6 +8,7 @@ the same behind it, or, if they are unlike, maybe the other way round.
 """
 
 from teefloors.errors import TooMany
+from teefloors.finished import has_some
 from teefloors.floors import dot_face, outer_face, tie_over
 from teefloors.lattice import rise_by
 from teefloors.pieces import block_in, sign_told, told_of_tie
@@ -150,6 +151,10 @@ class Fronts:
         for rank in range(self._last + 1):
             self._least[rank] = [height_at(rise, face) for face in self.faces_along(rank)]
 
+    def shut(self):
+        """From now on nothing counts, whatever else is told; nothing has been counted yet."""
+        self._shore = {}
+
     def _forget(self, rank):
         """Keep no count for which it matters what is told in this rank, or at the SITES about it."""
         del self._ahead[rank:]
@@ -246,8 +251,11 @@ def is_above(heights, least):
 
 
 def fronts_told(floor, told, books):
-    """The fronts of floor with all PIECES of told."""
+    """The fronts of floor with all PIECES of told; shut if no LAYING has these."""
     fronts = Fronts(floor, books)
     for piece in told:
         fronts.tell(piece)
+    # Else all behind the ranks in which told clash would be counted, only to find that nothing leads there.
+    if not has_some(floor, told):
+        fronts.shut()
     return fronts

@@ -41,8 +41,9 @@ def ties_by(floor, told):
 
 def ties_told_twice(floor, told):
     """The set of the TIES that these PIECES tell as tied and as cut."""
+    # As they stand ascending, the two pairs of one TIE stand side by side.
     pairs = ties_by(floor, told)
-    return tuple([tie for tie, word in pairs if word == "tied" and (tie, "cut") in pairs])
+    return tuple([one[0] for one, other in zip(pairs, pairs[1:]) if one[0] == other[0]])
 
 
 def bounds_by(floor, told):
